@@ -1,0 +1,1 @@
+"""Saltmill: key and password derivation, plain and in pieces."""
