@@ -1,6 +1,6 @@
 """Padding and compression of messages of any length, by chains."""
 
-from saltmill.families import BLOCK_LENGTHS, SIZES, WORD_BITS, round_constants
+from saltmill.families import BLOCK_LENGTHS, SIZES, WORD_BITS, round_constants, start_chain
 from saltmill.octets import big
 from saltmill.rounds import long_rounds, short_rounds
 
@@ -31,6 +31,7 @@ class Compressor:
 
     def __init__(self, name):
         self._name = name
+        self.block_length = BLOCK_LENGTHS[name]
         # Found when the first block comes: many machines share a compressor or see no block.
         self._constants = ()
 
@@ -44,10 +45,9 @@ class Compressor:
 
     def absorb(self, chain, octets):
         """The chain after all complete blocks of the octets, and the octets that are left."""
-        block_length = BLOCK_LENGTHS[self._name]
-        end = len(octets) - len(octets) % block_length
-        for at in range(0, end, block_length):
-            chain = self.compress(chain, octets[at:at + block_length])
+        end = len(octets) - len(octets) % self.block_length
+        for at in range(0, end, self.block_length):
+            chain = self.compress(chain, octets[at:at + self.block_length])
         return chain, octets[end:]
 
     def closed(self, chain, rest, length):
@@ -57,3 +57,8 @@ class Compressor:
         for word in last:
             octets.extend(big(word, WORD_BITS[self._name] // 8))
         return tuple(octets[:SIZES[self._name]])
+
+    def whole(self, octets):
+        """The digest of a whole message."""
+        chain, rest = self.absorb(start_chain(self._name), octets)
+        return self.closed(chain, rest, len(octets))

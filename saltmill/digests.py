@@ -2,7 +2,7 @@
 
 from saltmill.compressing import Compressor
 from saltmill.errors import ChoiceError, LengthError, OctetError
-from saltmill.families import BLOCK_LENGTHS, NAMES, SIZES, WORD_BITS, start_chain
+from saltmill.families import BLOCK_LENGTHS, NAMES, SIZES, start_chain
 from saltmill.octets import check_octets, is_octets
 from saltmill.saved import GREATEST_NUMBER, SavedText, saved_text
 
@@ -45,9 +45,7 @@ def digest(name, octets):
     """The digest of a message."""
     check_name(name)
     check_octets(octets)
-    compressor = Compressor(name)
-    chain, rest = compressor.absorb(start_chain(name), octets)
-    return compressor.closed(chain, rest, len(octets))
+    return Compressor(name).whole(octets)
 
 
 class Digest:
@@ -113,4 +111,4 @@ def _read_chain(words, name, length):
     if length < BLOCK_LENGTHS[name]:
         # No block is complete yet, so each word can only be the one of the first chain.
         return tuple([words.number(word, word) for word in start_chain(name)])
-    return words.numbers(len(start_chain(name)), (1 << WORD_BITS[name]) - 1)
+    return words.chain(name)

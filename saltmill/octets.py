@@ -28,6 +28,14 @@ def check_octets(*values):
             raise LengthError()
 
 
+def check_limited(value, most):
+    """Raise OctetError if the value is no octet string, and then LengthError if it is too long."""
+    if not is_octets(value):
+        raise OctetError()
+    if len(value) > most:
+        raise LengthError()
+
+
 def to_hex(octets):
     """The text with two digits for each octet."""
     check_octets(octets)

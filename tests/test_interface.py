@@ -20,6 +20,29 @@ FUNCTIONS = {
         "compress": ["name", "chain", "block"], "digest": ["name", "octets"],
         "restore_digest": ["text"],
     },
+    "blake.py": {
+        "compress": ["state", "words", "count", "last"],
+        "blake2b": ["octets", "*", "size=64", "key=()"],
+        "restore_blake": ["text"],
+    },
+    "codes.py": {
+        "hmac": ["name", "key", "octets"],
+        "restore_keyed": ["text"],
+    },
+    "expansion.py": {
+        "hkdf_extract": ["name", "salt", "material"],
+        "hkdf_expand": ["name", "key", "info", "size"],
+        "counter_kdf": ["name", "key", "label", "context", "size"],
+        "feedback_kdf": ["name", "key", "iv", "label", "context", "size"],
+        "pipeline_kdf": ["name", "key", "label", "context", "size"],
+        "one_step_kdf": ["name", "secret", "info", "size"],
+        "expand_label": ["name", "key", "label", "context", "size"],
+        "restore_reader": ["text"],
+    },
+    "stretching.py": {
+        "pbkdf2": ["name", "password", "salt", "rounds", "size"],
+        "restore_stretcher": ["text"],
+    },
 }
 METHODS = {
     ("errors.py", "TextError"): {"__init__": ["self", "at"]},
@@ -29,11 +52,38 @@ METHODS = {
         "__init__": ["self", "name"], "update": ["self", "octets"], "finish": ["self"],
         "fork": ["self"], "save": ["self"], "name": ["self"], "length": ["self"],
     },
+    ("blake.py", "Blake"): {
+        "__init__": ["self", "size=64", "key=()"], "update": ["self", "octets"], "finish": ["self"],
+        "fork": ["self"], "save": ["self"], "taken": ["self"],
+    },
+    ("codes.py", "Keyed"): {
+        "__init__": ["self", "name", "key"], "update": ["self", "octets"], "finish": ["self"],
+        "fork": ["self"], "save": ["self"], "name": ["self"],
+    },
+    ("expansion.py", "Reader"): {
+        "__init__": ["self", "request"], "read": ["self", "count"], "save": ["self"], "left": ["self"],
+    },
+    ("stretching.py", "Stretcher"): {
+        "__init__": ["self", "name", "password", "salt", "rounds", "size"], "run": ["self", "count"],
+        "read": ["self", "count"], "save": ["self"], "steps_left": ["self"], "ready": ["self"],
+        "left": ["self"],
+    },
 }
 CLASSES = {
     "errors.py": ["SaltmillError", "OctetError", "TextError", "ChoiceError", "LengthError",
                   "CostError", "OrderError", "StateError", "RecordError"],
     "digests.py": ["Digest"],
+    "blake.py": ["Blake"],
+    "codes.py": ["Keyed"],
+    "expansion.py": ["Reader"],
+    "stretching.py": ["Stretcher"],
+}
+PROPERTIES = {
+    ("digests.py", "Digest"): ["name", "length"],
+    ("blake.py", "Blake"): ["taken"],
+    ("codes.py", "Keyed"): ["name"],
+    ("expansion.py", "Reader"): ["left"],
+    ("stretching.py", "Stretcher"): ["steps_left", "ready", "left"],
 }
 
 
@@ -41,9 +91,18 @@ def body(file_name):
     return ast.parse((PACKAGE / file_name).read_text(encoding="utf-8")).body
 
 
+def parameters(arguments):
+    """The parameters as the document writes them, without the spaces around a `=`."""
+    return [word.replace(" ", "") for word in ast.unparse(arguments).split(", ") if word]
+
+
 def functions(rows):
-    return {row.name: [argument.arg for argument in row.args.args]
-            for row in rows if isinstance(row, ast.FunctionDef)}
+    return {row.name: parameters(row.args) for row in rows if isinstance(row, ast.FunctionDef)}
+
+
+def properties(rows):
+    return sorted(row.name for row in rows if isinstance(row, ast.FunctionDef)
+                  and [ast.unparse(decorator) for decorator in row.decorator_list] == ["property"])
 
 
 def classes(file_name):
@@ -67,6 +126,11 @@ class InterfaceTest(unittest.TestCase):
             defined = functions(classes(file_name)[class_name].body)
             for name, arguments in listed.items():
                 self.assertEqual(defined.get(name), arguments, (class_name, name))
+
+    def test_properties(self):
+        for (file_name, class_name), listed in PROPERTIES.items():
+            rows = classes(file_name)[class_name].body
+            self.assertEqual(properties(rows), sorted(listed), class_name)
 
 
 if __name__ == "__main__":

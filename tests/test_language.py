@@ -23,6 +23,22 @@ def trees():
         yield path.name, text, ast.parse(text)
 
 
+def imported_names(tree):
+    return {alias.name for node in ast.walk(tree) if isinstance(node, ast.ImportFrom)
+            for alias in node.names}
+
+
+def attribute_names(row):
+    """The attributes that the methods of a class assign to their own object."""
+    return {node.attr for node in ast.walk(row) if isinstance(node, ast.Attribute)
+            and isinstance(node.ctx, ast.Store) and isinstance(node.value, ast.Name)
+            and node.value.id == "self"}
+
+
+def method_names(row):
+    return [method.name for method in row.body if isinstance(method, ast.FunctionDef)]
+
+
 def bound_names(tree):
     """The functions, classes, parameters and variables of a file, but not its methods."""
     methods = {row for node in ast.walk(tree) if isinstance(node, ast.ClassDef)
@@ -77,6 +93,31 @@ class LanguageTest(unittest.TestCase):
                     own = set(bound_names(bound[node.module.split(".")[1]]))
                     for alias in node.names:
                         self.assertIn(alias.name, own, (name, node.module))
+
+    def test_no_name_is_bound_twice(self):
+        for name, _, tree in trees():
+            imported = imported_names(tree)
+            outside = [row.name for row in tree.body
+                       if isinstance(row, (ast.FunctionDef, ast.ClassDef))]
+            self.assertEqual(len(outside), len(set(outside)), name)
+            self.assertEqual(imported & set(bound_names(tree)), set(), name)
+            inside = {node.id for row in tree.body if isinstance(row, (ast.FunctionDef, ast.ClassDef))
+                      for node in ast.walk(row)
+                      if isinstance(node, ast.Name) and isinstance(node.ctx, ast.Store)}
+            self.assertEqual(inside & set(outside), set(), name)
+
+    def test_every_import_is_used(self):
+        for name, _, tree in trees():
+            used = {node.id for node in ast.walk(tree) if isinstance(node, ast.Name)}
+            self.assertEqual(imported_names(tree) - used, set(), name)
+
+    def test_methods_and_attributes_have_names_of_their_own(self):
+        rows = [row for _, _, tree in trees() for row in tree.body if isinstance(row, ast.ClassDef)]
+        attributes = {name for row in rows for name in attribute_names(row)}
+        for row in rows:
+            methods = method_names(row)
+            self.assertEqual(len(methods), len(set(methods)), row.name)
+            self.assertEqual(attributes & set(methods), set(), row.name)
 
     def test_builtins(self):
         for name, _, tree in trees():
