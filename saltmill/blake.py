@@ -1,10 +1,10 @@
 """The digest BLAKE2b, whole and in pieces."""
 
-from saltmill.compressing import block_words
 from saltmill.errors import LengthError
-from saltmill.octets import check_limited, check_octets, little
+from saltmill.octets import check_limited, check_octets
 from saltmill.roots import LOW_64, primes, square_root_fraction
 from saltmill.saved import GREATEST_NUMBER, SavedText, saved_text
+from saltmill.words import little_octets, little_words
 
 BLOCK_LENGTH = 128
 MOST_SIZE = 64
@@ -85,28 +85,21 @@ def key_block(key):
     return key + (0,) * (BLOCK_LENGTH - len(key))
 
 
-def little_words(block):
-    """The 16 words of a block, each least significant octet first."""
-    return block_words(block[::-1])[::-1]
-
-
 def absorbed(state, done, octets):
     """The state, the number of octets compressed, and the octets that wait for others to follow."""
     # A block that may be the last one waits, even if it is full.
     end = max(len(octets) - 1, 0) // BLOCK_LENGTH * BLOCK_LENGTH
     for at in range(0, end, BLOCK_LENGTH):
         done += BLOCK_LENGTH
-        state = compress(state, little_words(octets[at:at + BLOCK_LENGTH]), done, False)
+        state = compress(state, little_words(octets[at:at + BLOCK_LENGTH], 8), done, False)
     return state, done, octets[end:]
 
 
 def closed(state, done, waiting, size):
     """The digest after the octets that wait."""
     block = waiting + (0,) * (BLOCK_LENGTH - len(waiting))
-    octets = []
-    for word in compress(state, little_words(block), done + len(waiting), True):
-        octets.extend(little(word, 8))
-    return tuple(octets[:size])
+    last = compress(state, little_words(block, 8), done + len(waiting), True)
+    return little_octets(last, 8)[:size]
 
 
 def blake_digest(octets, size, key):

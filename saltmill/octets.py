@@ -28,11 +28,11 @@ def check_octets(*values):
             raise LengthError()
 
 
-def check_limited(value, most):
-    """Raise OctetError if the value is no octet string, and then LengthError if it is too long."""
+def check_limited(value, most, least=0):
+    """Raise OctetError if the value is no octet string, and then LengthError for its length."""
     if not is_octets(value):
         raise OctetError()
-    if len(value) > most:
+    if not least <= len(value) <= most:
         raise LengthError()
 
 

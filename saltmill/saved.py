@@ -23,8 +23,8 @@ def is_number(word):
         return False
     if word[0] == "0":
         return len(word) == 1
-    # Not isdigit, which takes digits of other scripts, too.
-    return all(character in "0123456789" for character in word)
+    # isdigit takes digits of other scripts, too.
+    return word.isascii() and word.isdigit()
 
 
 class SavedText:
@@ -53,6 +53,14 @@ class SavedText:
         """The next word as a number, which must be in this range and a multiple of the factor."""
         word = self._next_word()
         if not is_number(word) or not least <= int(word) <= most or int(word) % factor != 0:
+            raise StateError(self._at)
+        self._at += 1
+        return int(word)
+
+    def choice(self, numbers):
+        """The next word as a number, which must be one of these."""
+        word = self._next_word()
+        if not is_number(word) or int(word) not in numbers:
             raise StateError(self._at)
         self._at += 1
         return int(word)

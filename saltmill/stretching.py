@@ -1,14 +1,21 @@
 """The derivation of octets from passwords (PBKDF2), whole and in steps."""
 
+from saltmill.costs import RANGES, check_cost
 from saltmill.digests import check_name
 from saltmill.errors import CostError, LengthError
 from saltmill.families import NAMES, SIZES
 from saltmill.keying import absorbed_key, check_key, read_key
-from saltmill.octets import MOST_OCTETS, big, check_octets, xor
+from saltmill.octets import MOST_OCTETS, big, check_octets
 from saltmill.saved import SavedText, counted, saved_text
+from saltmill.words import xor_words
 
-MOST_ROUNDS = 1000000
 MOST_SIZE = 4096
+
+
+def check_size(size):
+    """Raise LengthError for a size that no output has."""
+    if not 1 <= size <= MOST_SIZE:
+        raise LengthError()
 
 
 def check_arguments(name, password, salt, rounds, size):
@@ -16,10 +23,8 @@ def check_arguments(name, password, salt, rounds, size):
     check_name(name)
     check_key(password)
     check_octets(salt)
-    if not 1 <= rounds <= MOST_ROUNDS:
-        raise CostError()
-    if not 1 <= size <= MOST_SIZE:
-        raise LengthError()
+    check_cost("rounds", rounds)
+    check_size(size)
 
 
 def first_link(key, salt, number):
@@ -33,7 +38,7 @@ def stretched_block(key, salt, rounds, number):
     block = link
     for _ in range(rounds - 1):
         link = key.tag(link)
-        block = xor(block, link)
+        block = xor_words(block, link)
     return block
 
 
@@ -54,6 +59,40 @@ def pbkdf2(name, password, salt, rounds, size):
     return stretched(name, password, salt, rounds, size)
 
 
+class Links:
+    """The links of all blocks in steps, block by block."""
+
+    def __init__(self, name, key, salt, rounds):
+        self._size = SIZES[name]
+        self._key = key
+        self._salt = salt
+        self._rounds = rounds
+        # The link and the block of the steps of a block that is not done yet.
+        self._link = ()
+        self._block = ()
+
+    def step(self, done):
+        """Make the step behind so many others; the block if this was its last step, otherwise ()."""
+        number, place = divmod(done, self._rounds)
+        if place == 0:
+            self._link = first_link(self._key, self._salt, number + 1)
+            self._block = self._link
+        else:
+            self._link = self._key.tag(self._link)
+            self._block = xor_words(self._block, self._link)
+        return self._block if place == self._rounds - 1 else ()
+
+    def numbers(self, done):
+        """What is held behind so many steps."""
+        return self._link + self._block if done % self._rounds > 0 else ()
+
+    def restore(self, words, done):
+        """Take what is held behind so many steps from a saved text."""
+        if done % self._rounds > 0:
+            self._link = words.numbers(self._size, 255)
+            self._block = words.numbers(self._size, 255)
+
+
 class Stretcher:
     """The octets that are derived from a password, computed in steps and read in pieces."""
 
@@ -64,11 +103,9 @@ class Stretcher:
         self._salt = salt
         self._rounds = rounds
         self._size = size
+        self._links = Links(name, self._key, salt, rounds)
         self._steps_done = 0
         self._octets_read = 0
-        # The link and the block of the steps of a block that is not done yet.
-        self._link = ()
-        self._block = ()
         self._unread = ()
 
     @property
@@ -93,27 +130,12 @@ class Stretcher:
             raise CostError()
         many = min(count, self.steps_left)
         for _ in range(many):
-            self._step()
+            block = self._links.step(self._steps_done)
+            self._steps_done += 1
+            # The last block may have more octets than the output still needs.
+            needed = self.left - self.ready
+            self._unread = self._unread + block[:needed]
         return many
-
-    def _step(self):
-        number = self._steps_done // self._rounds + 1
-        if self._steps_done % self._rounds == 0:
-            self._link = first_link(self._key, self._salt, number)
-            self._block = self._link
-        else:
-            self._link = self._key.tag(self._link)
-            self._block = xor(self._block, self._link)
-        self._steps_done += 1
-        if self._steps_done % self._rounds == 0:
-            self._close_block(number)
-
-    def _close_block(self, number):
-        # The last block may have more octets than the output still needs.
-        needed = self._size - (number - 1) * len(self._block)
-        self._unread = self._unread + self._block[:needed]
-        self._link = ()
-        self._block = ()
 
     def read(self, count):
         """The next octets of the output, or all that are ready if they are fewer."""
@@ -128,7 +150,7 @@ class Stretcher:
         """The state as a text."""
         numbers = (self._rounds, self._size) + self._key.chains() + counted(self._salt)
         numbers = numbers + (self._steps_done, self._octets_read)
-        numbers = numbers + self._link + self._block + self._unread
+        numbers = numbers + self._links.numbers(self._steps_done) + self._unread
         return saved_text(("stretcher", self._name), numbers)
 
 
@@ -137,17 +159,15 @@ def restore_stretcher(text):
     words = SavedText(text)
     words.word(("stretcher",))
     name = words.word(NAMES)
-    rounds = words.number(1, MOST_ROUNDS)
+    least, most = RANGES["rounds"]
+    rounds = words.number(least, most)
     size = words.number(1, MOST_SIZE)
     key = read_key(words, name)
     machine = Stretcher(name, key, words.octets(MOST_OCTETS), rounds, size)
     machine._steps_done = words.number(0, machine.steps_left)
-    blocks_done, steps_of_block = divmod(machine._steps_done, rounds)
-    octets_done = min(blocks_done * SIZES[name], size)
+    octets_done = min(machine._steps_done // rounds * SIZES[name], size)
     machine._octets_read = words.number(0, octets_done)
-    if steps_of_block > 0:
-        machine._link = words.numbers(SIZES[name], 255)
-        machine._block = words.numbers(SIZES[name], 255)
+    machine._links.restore(words, machine._steps_done)
     machine._unread = words.numbers(octets_done - machine._octets_read, 255)
     words.end()
     return machine

@@ -83,7 +83,7 @@ class CommonTest(unittest.TestCase):
             self.refuses(restore, value, 0)
         for text in ("", " ", "\n", " " + " ".join(words), "sha1"):
             self.refuses(restore, text, 0)
-        for word in (words[0].upper(), words[0].title(), words[0] + "s", words[0][:3], "", "0", "digest",
+        for word in (words[0].upper(), words[0].title(), words[0] + "s", words[0][:-1], "", "0", "digest",
                      words[0] + "\n"):
             self.refuses_with(restore, words, 0, word)
         self.refuses(restore, " ".join(words).replace(" ", "\t"), 0)

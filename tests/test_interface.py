@@ -43,6 +43,28 @@ FUNCTIONS = {
         "pbkdf2": ["name", "password", "salt", "rounds", "size"],
         "restore_stretcher": ["text"],
     },
+    "mixing.py": {
+        "salsa": ["words"], "block_mix": ["words"], "mix": ["words", "n"],
+        "scrypt": ["password", "salt", "n", "r", "p", "size"],
+        "restore_mixer": ["text"],
+    },
+    "filling.py": {
+        "long_digest": ["octets", "size"], "join_blocks": ["first", "second"],
+        "argon2": ["kind", "password", "salt", "secret", "data", "memory", "passes", "lanes", "size"],
+        "restore_filler": ["text"],
+    },
+    "jobs.py": {
+        "check_request": ["request"], "input_lengths": ["request"], "cost": ["request"],
+        "held": ["request"], "derive": ["request", "inputs"], "restore_job": ["text"],
+        "follow": ["request", "inputs", "deeds"],
+    },
+    "records.py": {
+        "write_record": ["record"], "parse_record": ["text"],
+        "make_record": ["scheme", "costs", "salt", "size", "password"],
+        "check_password": ["text", "password"], "is_weaker": ["text", "policy"],
+        "renew": ["text", "password", "policy", "salt"],
+        "sub_key": ["text", "password", "label", "size"],
+    },
 }
 METHODS = {
     ("errors.py", "TextError"): {"__init__": ["self", "at"]},
@@ -68,6 +90,21 @@ METHODS = {
         "read": ["self", "count"], "save": ["self"], "steps_left": ["self"], "ready": ["self"],
         "left": ["self"],
     },
+    ("mixing.py", "Mixer"): {
+        "__init__": ["self", "words", "n", "*", "gap=1"], "run": ["self", "count"], "result": ["self"],
+        "save": ["self"], "steps": ["self"], "left": ["self"],
+    },
+    ("filling.py", "Filler"): {
+        "__init__": ["self", "kind", "password", "salt", "secret", "data", "memory", "passes", "lanes",
+                     "size"],
+        "fill": ["self", "lane", "count"], "tag": ["self"], "save": ["self"], "steps": ["self"],
+        "left": ["self"], "room": ["self", "lane"],
+    },
+    ("jobs.py", "Job"): {
+        "__init__": ["self", "request"], "feed": ["self", "octets"], "run": ["self", "count"],
+        "read": ["self", "count"], "save": ["self"], "missing": ["self"], "left": ["self"],
+        "ready": ["self"], "unread": ["self"],
+    },
 }
 CLASSES = {
     "errors.py": ["SaltmillError", "OctetError", "TextError", "ChoiceError", "LengthError",
@@ -77,6 +114,9 @@ CLASSES = {
     "codes.py": ["Keyed"],
     "expansion.py": ["Reader"],
     "stretching.py": ["Stretcher"],
+    "mixing.py": ["Mixer"],
+    "filling.py": ["Filler"],
+    "jobs.py": ["Job"],
 }
 PROPERTIES = {
     ("digests.py", "Digest"): ["name", "length"],
@@ -84,6 +124,9 @@ PROPERTIES = {
     ("codes.py", "Keyed"): ["name"],
     ("expansion.py", "Reader"): ["left"],
     ("stretching.py", "Stretcher"): ["steps_left", "ready", "left"],
+    ("mixing.py", "Mixer"): ["steps", "left"],
+    ("filling.py", "Filler"): ["steps", "left"],
+    ("jobs.py", "Job"): ["missing", "left", "ready", "unread"],
 }
 
 
