@@ -4,9 +4,8 @@ from saltmill.derivations import derived
 from saltmill.errors import LengthError, OctetError
 from saltmill.expansion import hkdf_expand, hkdf_extract
 from saltmill.filling import argon2
-from saltmill.forms import (PARTS, WORD_PARTS, absorbed_lengths, check_form, check_numbers, kept_lengths,
-                            lengths_of, named_parts, octets_made, read_request, room_of_digest, room_of_table,
-                            step_count)
+from saltmill.forms import (absorbed_lengths, check_form, check_numbers, kept_lengths, lengths_of, named_parts,
+                            octets_made, read_request, room_of_digest, room_of_table, step_count)
 from saltmill.intakes import new_taker
 from saltmill.mixing import scrypt
 from saltmill.octets import MOST_OCTETS, check_octets, is_octets
@@ -123,11 +122,11 @@ class Job:
     def _take(self, octets):
         self._kept = self._kept + self._taker.take(octets)
         self._fed += len(octets)
-        self._begin_work()
+        if self.missing == 0 and self._work is None:
+            self._begin_work()
 
     def _begin_work(self):
-        if self.missing == 0 and self._work is None:
-            self._work = new_work(self._request, self._taker.outcome, self._kept)
+        self._work = new_work(self._request, self._taker.outcome, self._kept)
 
     def run(self, count):
         """Make the next steps, or all that are left if they are fewer; how many were made."""
@@ -151,11 +150,8 @@ class Job:
 
     def save(self):
         """The state as a text."""
-        words = ["job", self._request[0]]
-        numbers = list(self._request[1:])
-        if PARTS[self._request[0]][0] in WORD_PARTS:
-            words.append(numbers.pop(0))
-        numbers.extend((self._fed, self._made, self._octets_read))
+        words = ["job"] + [str(part) for part in self._request]
+        numbers = [self._fed, self._made, self._octets_read]
         numbers.extend(self._taker.numbers() + self._kept)
         if self._work is not None:
             numbers.extend(self._work.numbers(self._made))
@@ -169,9 +165,8 @@ class Job:
         taken = min(self._fed, sum(absorbed_lengths(self._request)))
         self._taker.restore(words, taken)
         self._kept = words.numbers(self._fed - taken, 255)
-        self._work = None
-        self._begin_work()
-        if self._work is not None:
+        if self.missing == 0:
+            self._begin_work()
             self._work.restore(words, self._made)
         self._unread = words.numbers(octets - self._octets_read, 255)
 

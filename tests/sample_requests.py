@@ -55,7 +55,8 @@ EDGES = tuple(
     + [("pbkdf2", "sha512", 2, 128 + more, 0, 65) for more in (-1, 0, 1)]
     + [("scrypt", 2, 1, 2, 1, 64 + more, 3, 32) for more in (0, 1)]
     + [("argon2", "id", 8, 1, 1, first, 0, second, 0, 16)
-       for first, second in ((0, 88), (88, 0), (87, 1), (100, 216), (0, 300))])
+       for first, second in ((0, 88), (88, 0), (87, 1), (100, 216), (0, 300))]
+    + [("argon2", "d", 8, 1, 1, 1, 1, 0, 2, 16), ("argon2", "i", 8, 1, 1, 0, 1, 0, 1, 16)])
 
 
 def lengths(request):

@@ -234,6 +234,35 @@ class NoJobTest(CommonTest):
                 for more in (["0"], ["1", "2"], [""], ["x"], ["0"] * 128):
                     self.refuses_words(restore_job, words + more, len(words))
 
+    def test_octets_that_are_none(self):
+        # The request, a place, and how many words at the end of the text are octets there.
+        for request, place, many in (
+                (("pbkdf2", "sha1", 3, 4, 8, 50), (3,), 3), (("pbkdf2", "sha1", 3, 4, 8, 50), (12,), 8),
+                # The salt, a link, a block, and what is ready and not read.
+                (("pbkdf2", "sha1", 3, 4, 8, 50), (12, 7, 30), 8 + 20 + 20 + 10),
+                (("pbkdf2", "sha1", 3, 70, 8, 50), (69,), 5), (("hkdf", "sha256", 5, 9, 4, 70), (10,), 5),
+                (("hkdf", "sha256", 5, 9, 4, 70), (18, 1), 4 + 32 + 32), (("one_step", "sha1", 9, 4, 25), (11,), 11),
+                (("pipeline", "sha1", 5, 3, 4, 30), (12, 1, 15), 7 + 40 + 5),
+                (("scrypt", 4, 1, 2, 3, 5, 6, 40), (11, 3), 6 + 96),
+                # The octets of the seed; before it those that wait: numbers, two lengths and what was fed.
+                (("argon2", "id", 17, 2, 2, 3, 8, 2, 1, 33), (14,), 64),
+                (("argon2", "id", 17, 2, 2, 3, 8, 2, 1, 33), (4,), 24 + 4 + 3 + 4 + 1),
+                (("argon2", "id", 17, 2, 2, 3, 8, 2, 1, 33), (14, 32, 3), 64 + 30)):
+            words = job_behind(request, *place).save().split(" ")
+            for at in range(len(words) - many, len(words)):
+                self.refuses_with(restore_job, words, at, 256)
+                self.keeps(restore_job, " ".join(words[:at] + ["255"] + words[at + 1:]))
+
+    def test_a_job_goes_on_with_the_numbers_of_its_text(self):
+        # Without any input the key is there from the start, and the text tells another one.
+        for request in EMPTY:
+            if request[0] != "one_step":
+                words = Job(request).save().split(" ")
+                words[-1] = str(int(words[-1]) ^ 1)
+                job = restore_job(" ".join(words))
+                self.assertEqual(job.save(), " ".join(words))
+                self.assertNotEqual(finish(job, request), wanted(request))
+
     def test_numbers_that_no_job_has(self):
         for request in ORDINARY:
             words = job_behind(request, 10 ** 9).save().split(" ")

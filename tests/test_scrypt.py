@@ -3,7 +3,9 @@
 import hashlib
 import random
 import unittest
+from unittest import mock
 
+from saltmill import mixing
 from saltmill.errors import CostError, LengthError
 from saltmill.mixing import block_mix, mix, salsa, scrypt
 from tests import second_scrypt
@@ -108,6 +110,13 @@ class PiecesTest(CommonTest):
         for r, n in ((2, 65536), (8, 16384), (3, 32768), (4, 32768), (8, 65536)):
             with self.assertRaises(CostError):
                 mix(some_words(32 * r), n)
+
+    def test_n_and_r_just_inside(self):
+        # The mixing itself, which would take long, is left out.
+        with mock.patch.object(mixing, "mixed_row", lambda row, n: (row, n)):
+            for r, n in ((1, 65536), (2, 32768), (3, 16384), (4, 16384), (5, 8192), (8, 8192)):
+                words = some_words(32 * r)
+                self.assertEqual(mix(words, n), (words, n))
 
 
 class ScryptTest(CommonTest):
